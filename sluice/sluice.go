@@ -1,0 +1,117 @@
+// Package sluice: messages by descriptions, and a ring of bytes for them: see DOC.md.
+package sluice
+
+import (
+	"errors"
+
+	"sluice/api"
+	"sluice/describe"
+	"sluice/values"
+)
+
+func parse(desc string) (*describe.Type, api.Errno, int) {
+	of, err := describe.Parse(desc)
+	var refusal *describe.Refusal
+	if errors.As(err, &refusal) {
+		return nil, refusal.Errno, refusal.At
+	}
+	return of, api.OK, 0
+}
+
+// Check tells whether a text is a description (P3).
+func Check(desc string) (api.Errno, int) {
+	_, errno, at := parse(desc)
+	return errno, at
+}
+
+// Encode makes the message of a value (P4).
+func Encode(desc string, value string) (string, api.Errno, int) {
+	of, errno, at := parse(desc)
+	if errno != api.OK {
+		return "", errno, at
+	}
+	v, at, ok := values.FromText(of, value)
+	if !ok {
+		return "", api.ErrValue, at
+	}
+	message, ok := v.Message()
+	if !ok {
+		return "", api.ErrLong, 0
+	}
+	return message, api.OK, 0
+}
+
+// Decode tells the value of a message (P5).
+func Decode(desc string, data string) (string, api.Errno, int) {
+	of, errno, at := parse(desc)
+	if errno != api.OK {
+		return "", errno, at
+	}
+	if len(data) > api.MaxMessage {
+		return "", api.ErrLong, 0
+	}
+	v, at, ok := values.FromMessage(of, data)
+	if !ok {
+		return "", api.ErrData, at
+	}
+	return v.Text(), api.OK, 0
+}
+
+// Get tells a part of a message's value (P6).
+func Get(desc string, data string, path string) (string, api.Errno, int) { return "", api.OK, 0 }
+
+// Tally adds up the numbers of messages (P7).
+func Tally(desc string, messages []string, workers int) ([]api.Sum, int, api.Errno, int) {
+	return nil, 0, api.OK, 0
+}
+
+// Ring is a ring of bytes in which frames wait and are held.
+type Ring struct{}
+
+// NewRing makes an empty ring (P8).
+func NewRing(granules int) (*Ring, api.Errno) { return nil, api.OK }
+
+// Put puts a frame in (P8).
+func (r *Ring) Put(data string) api.Errno { return api.OK }
+
+// Take takes the frame that waits longest, which is held then (P9).
+func (r *Ring) Take() (int, api.Errno) { return 0, api.OK }
+
+// View tells bytes of a frame that is held (P9).
+func (r *Ring) View(frame int, from int, to int) (string, api.Errno) { return "", api.OK }
+
+// Release lets a frame go (P9).
+func (r *Ring) Release(frame int) api.Errno { return api.OK }
+
+// Shut lets nothing in any more (P8).
+func (r *Ring) Shut() api.Errno { return api.OK }
+
+// Room tells how the ring is (P9).
+func (r *Ring) Room() api.Room { return api.Room{} }
+
+// Bus is a ring for messages of one description.
+type Bus struct{}
+
+// NewBus makes one (P10).
+func NewBus(desc string, granules int) (*Bus, api.Errno, int) { return nil, api.OK, 0 }
+
+// Publish puts the message of a value in (P10).
+func (b *Bus) Publish(value string) (api.Errno, int) { return api.OK, 0 }
+
+// Raw puts bytes in as they are (P10).
+func (b *Bus) Raw(data string) api.Errno { return api.OK }
+
+// Consume takes the message that waits longest (P10).
+func (b *Bus) Consume() (int, string, api.Errno) { return 0, "", api.OK }
+
+// Field tells a part of a message that is held (P10).
+func (b *Bus) Field(frame int, path string) (string, api.Errno, int) { return "", api.OK, 0 }
+
+// Release lets a message go (P10).
+func (b *Bus) Release(frame int) api.Errno { return api.OK }
+
+// Shut lets nothing in any more (P10).
+func (b *Bus) Shut() api.Errno { return api.OK }
+
+// Room tells how the bus's ring is (P10).
+func (b *Bus) Room() api.Room { return api.Room{} }
