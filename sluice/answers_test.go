@@ -1,8 +1,9 @@
 package sluice
 
 import (
-	"math/rand/v2"
+	"fmt"
 	"slices"
+	"strings"
 	"sync"
 	"testing"
 
@@ -29,6 +30,12 @@ func someCalls() []func() answer {
 		errno, at := Check(desc)
 		return "", errno, at
 	}
+	tallyAll := func(desc string, messages []string, workers int) {
+		calls = append(calls, func() answer {
+			sums, refused, errno, at := Tally(desc, messages, workers)
+			return answer{tallyText(sums, refused), errno, at}
+		})
+	}
 	descriptions := []string{"", "a=byte", "a=b", "a=byte\na=byte", "m={id:short,tag:text,on:?bool}", "p={x:int,y:int}\nm=<at:p|far:[byte]>", "a=" + times("?", 12) + "byte", times("a", 401), "m=[bytes]", "a=[byte"}
 	inputs := []string{"", "1", "{1,\"a\",-}", "at:{1,2}", "far:[1,2,255]", "\x01\x03\x01\x02\xff", "\x02\x01\x02hi\x01\x01", listOfBytes(1000), listOfBytes(1001), times("\x00", 1001), "\x07"}
 	for _, desc := range descriptions {
@@ -36,9 +43,24 @@ func someCalls() []func() answer {
 		for _, input := range inputs {
 			add(Encode, desc, input)
 			add(Decode, desc, input)
+			for _, path := range []string{"", "id", "far/2", "far/3", "+/+", "0"} {
+				add(getBy(desc), input, path)
+			}
+		}
+		for _, workers := range []int{0, 1, 3, 8, 9} {
+			tallyAll(desc, inputs, workers)
+			tallyAll(desc, slices.Repeat(inputs, 6), workers)
 		}
 	}
 	return calls
+}
+
+// tallyText is empty if there is nothing to tell.
+func tallyText(sums []api.Sum, refused int) string {
+	if len(sums) == 0 && refused == 0 {
+		return ""
+	}
+	return fmt.Sprint(sums, refused)
 }
 
 func TestP1NothingBesideAnError(t *testing.T) {
@@ -94,7 +116,7 @@ func TestP2SameAnswerAtOnce(t *testing.T) {
 
 // Whatever is handed in, a call ends, and tells a place within it.
 func TestP1WhateverIsHandedIn(t *testing.T) {
-	m := maker{rand.New(rand.NewPCG(3, 4))}
+	m := newMaker(3)
 	signs := []string{"a", "b", "=", "?", "[", "]", "{", "}", "<", ">", ":", ",", "|", "\n", "byte", "text", "a=", "b={a:", "\x00", "\xff", "é", "-", "+", "\"", "\\", "1", "x"}
 	some := func() string {
 		text := ""
@@ -118,6 +140,34 @@ func TestP1WhateverIsHandedIn(t *testing.T) {
 				t.Fatalf("%q, %q: %q, %d, %d", desc, from, s, e, to)
 			}
 		}
+		wantGetAsDecode(t, desc, from, some())
+		wantTallyAsDecode(t, desc, []string{from, some(), from}, 1+m.IntN(8))
+	}
+}
+
+// wantGetAsDecode asks for Decode's error, or else for a step that there is.
+func wantGetAsDecode(t *testing.T, desc, data, path string) {
+	t.Helper()
+	s, e, at := Get(desc, data, path)
+	_, errno, place := Decode(desc, data)
+	if errno != api.OK && (s != "" || e != errno || at != place) || errno == api.OK && e != api.OK && (s != "" || e != api.ErrPath || at < 0 || at > strings.Count(path, "/")) {
+		t.Fatalf("%q, %q, %q: %q, %d, %d", desc, data, path, s, e, at)
+	}
+}
+
+// wantTallyAsDecode asks for Check's error, or else for what Decode does not take.
+func wantTallyAsDecode(t *testing.T, desc string, messages []string, workers int) {
+	t.Helper()
+	sums, refused, e, at := Tally(desc, messages, workers)
+	errno, place := Check(desc)
+	others := 0
+	for _, message := range messages {
+		if _, e, _ := Decode(desc, message); errno == api.OK && e != api.OK {
+			others++
+		}
+	}
+	if e != errno || at != place || refused != others || len(sums) > 0 && refused == len(messages) {
+		t.Fatalf("%q, %q: %v, %d, %d, %d, want %d refused", desc, messages, sums, refused, e, at, others)
 	}
 }
 
@@ -131,6 +181,10 @@ func TestP1GreatInputs(t *testing.T) {
 	wantError(t, Encode, "m=[[byte]]", "["+times("["+times("1,", 299)+"1],", 299)+"[]]", api.ErrLong, 0)
 	wantError(t, Decode, "m=byte", times("\x00", much), api.ErrLong, 0)
 	wantCheck(t, api.ErrLong, times("a=byte\n", much))
+	wantError(t, getBy("m=[?byte]"), "\x01\x01\x07", "0/+"+times("/+", much), api.ErrPath, 2)
+	wantError(t, getBy("m=[?byte]"), "\x01\x01\x07", times("/", much), api.ErrPath, 0)
+	wantError(t, getBy("m=[?byte]"), "\x01\x01\x07", times("0", much), api.ErrPath, 0)
+	wantTally(t, "m=byte", slices.Repeat([]string{times("\x00", much)}, 60), nil, 60)
 }
 
 // Six fields in each of ten lines are many more values than a message has bytes.
@@ -143,4 +197,6 @@ func TestP1WideTypes(t *testing.T) {
 	wantCheck(t, api.OK, desc)
 	wantError(t, Decode, desc, times("\x00", 1000), api.ErrData, 1000)
 	wantError(t, Encode, desc, times("{", 9)+"1,", api.ErrValue, 11)
+	wantError(t, getBy(desc), times("\x00", 1000), times("a/", 8)+"a", api.ErrData, 1000)
+	wantTally(t, desc, slices.Repeat([]string{times("\x00", 1000)}, 60), nil, 60)
 }

@@ -9,13 +9,61 @@ import (
 	"sluice/api"
 )
 
-// madeType is a type's text and what makes values of it, as texts and as bytes.
+// made is a value, as text and as bytes, with all that is in it: the text of each
+// part by its path, the numbers by their paths with a * for each list element.
+type made struct {
+	text, data string
+	parts      map[string]string
+	numbers    map[string][]int64
+}
+
+func newMade(text, data string) made {
+	return made{text, data, map[string]string{"": text}, map[string][]int64{}}
+}
+
+func madeNumber(n int64, data string) made {
+	v := newMade(strconv.FormatInt(n, 10), data)
+	v.numbers[""] = []int64{n}
+	return v
+}
+
+func longer(step, path string) string {
+	if path == "" {
+		return step
+	}
+	return step + "/" + path
+}
+
+// hold takes in what is in a part to which a step leads.
+func (v made) hold(step, anyStep string, part made) {
+	for path, text := range part.parts {
+		v.parts[longer(step, path)] = text
+	}
+	for path, numbers := range part.numbers {
+		to := longer(anyStep, path)
+		v.numbers[to] = append(v.numbers[to], numbers...)
+	}
+}
+
+// madeType is a type's text and what makes values of it.
 type madeType struct {
 	text  string
-	value func() (string, string)
+	value func() made
 }
 
 type maker struct{ *rand.Rand }
+
+// newMaker makes the same at every run.
+func newMaker(seed uint64) maker { return maker{rand.New(rand.NewPCG(seed, 2))} }
+
+func (m maker) description() (string, madeType) {
+	for {
+		of := m.anyType(1 + m.IntN(4))
+		if desc := "m=" + of.text; len(desc) <= api.MaxText {
+			return desc, of
+		}
+	}
+}
 
 func (m maker) anyType(depth int) madeType {
 	n := m.IntN(11)
@@ -28,9 +76,9 @@ func (m maker) anyType(depth int) madeType {
 	case 3:
 		return madeType{"int", m.signed}
 	case 4:
-		return madeType{"bool", func() (string, string) {
+		return madeType{"bool", func() made {
 			k := m.IntN(2)
-			return []string{"no", "yes"}[k], []string{"\x00", "\x01"}[k]
+			return newMade([]string{"no", "yes"}[k], []string{"\x00", "\x01"}[k])
 		}}
 	case 5:
 		return madeType{"text", m.quoted}
@@ -47,23 +95,23 @@ func (m maker) anyType(depth int) madeType {
 }
 
 func (m maker) unsigned(word string, bits int) madeType {
-	return madeType{word, func() (string, string) {
+	return madeType{word, func() made {
 		n := m.Uint64() >> (64 - bits) >> m.IntN(bits)
 		data := ""
 		for i := 0; i < bits; i += 8 {
 			data += string([]byte{byte(n >> i)})
 		}
-		return strconv.FormatUint(n, 10), data
+		return madeNumber(int64(n), data)
 	}}
 }
 
-func (m maker) signed() (string, string) {
+func (m maker) signed() made {
 	n := int64(m.Uint64()) >> m.IntN(64)
 	data := ""
 	for i := 56; i >= 0; i -= 8 {
 		data += string([]byte{byte(n >> i)})
 	}
-	return strconv.FormatInt(n, 10), data
+	return madeNumber(n, data)
 }
 
 func countBytes(n int) string {
@@ -75,49 +123,65 @@ func countBytes(n int) string {
 
 func (m maker) size() int { return []int{0, 1, 2, 3, 5, 130}[m.IntN(6)] }
 
-func (m maker) quoted() (string, string) {
+func (m maker) quoted() made {
 	n, data := m.size(), ""
 	for range n {
 		data += string(rune(32 + m.IntN(95)))
 	}
-	return `"` + strings.NewReplacer(`"`, `\"`, `\`, `\\`).Replace(data) + `"`, countBytes(n) + data
+	return newMade(`"`+strings.NewReplacer(`"`, `\"`, `\`, `\\`).Replace(data)+`"`, countBytes(n)+data)
 }
 
-func (m maker) digits() (string, string) {
+func (m maker) digits() made {
 	n, text, data := m.size(), "x", ""
 	for range n {
 		b := m.IntN(256)
 		text += strconv.FormatInt(int64(256+b), 16)[1:]
 		data += string([]byte{byte(b)})
 	}
-	return text, countBytes(n) + data
+	return newMade(text, countBytes(n)+data)
+}
+
+// row is the texts, in a row, and the bytes of some values.
+func row(parts []made) (string, string) {
+	var texts []string
+	all := ""
+	for _, part := range parts {
+		texts, all = append(texts, part.text), all+part.data
+	}
+	return strings.Join(texts, ","), all
 }
 
 func (m maker) list(of madeType) madeType {
-	return madeType{"[" + of.text + "]", func() (string, string) {
-		n := m.IntN(4)
-		var texts []string
-		all := countBytes(n)
-		for range n {
-			text, data := of.value()
-			texts, all = append(texts, text), all+data
+	return madeType{"[" + of.text + "]", func() made {
+		var elements []made
+		for range m.IntN(4) {
+			elements = append(elements, of.value())
 		}
-		return "[" + strings.Join(texts, ",") + "]", all
+		texts, data := row(elements)
+		v := newMade("["+texts+"]", countBytes(len(elements))+data)
+		for i, element := range elements {
+			v.hold(strconv.Itoa(i), "*", element)
+		}
+		return v
 	}}
 }
 
 func (m maker) option(of madeType) madeType {
-	return madeType{"?" + of.text, func() (string, string) {
+	return madeType{"?" + of.text, func() made {
 		if m.IntN(3) == 0 {
-			return "-", "\x00"
+			return newMade("-", "\x00")
 		}
-		text, data := of.value()
-		return "+" + text, "\x01" + data
+		inner := of.value()
+		v := newMade("+"+inner.text, "\x01"+inner.data)
+		v.hold("+", "+", inner)
+		return v
 	}}
 }
 
 func (m maker) parts(depth int) (names []string, types []madeType, texts []string) {
-	names = strings.Split("a ab abc b ba x", " ")[:1+m.IntN(3)]
+	names = strings.Split("a ab abc b ba x", " ")
+	m.Shuffle(len(names), func(i, k int) { names[i], names[k] = names[k], names[i] })
+	names = names[:1+m.IntN(3)]
 	for _, name := range names {
 		of := m.anyType(depth - 1)
 		types, texts = append(types, of), append(texts, name+":"+of.text)
@@ -126,38 +190,40 @@ func (m maker) parts(depth int) (names []string, types []madeType, texts []strin
 }
 
 func (m maker) record(depth int) madeType {
-	_, types, texts := m.parts(depth)
-	return madeType{"{" + strings.Join(texts, ",") + "}", func() (string, string) {
-		var values []string
-		all := ""
+	names, types, typeTexts := m.parts(depth)
+	return madeType{"{" + strings.Join(typeTexts, ",") + "}", func() made {
+		var fields []made
 		for _, of := range types {
-			text, data := of.value()
-			values, all = append(values, text), all+data
+			fields = append(fields, of.value())
 		}
-		return "{" + strings.Join(values, ",") + "}", all
+		texts, data := row(fields)
+		v := newMade("{"+texts+"}", data)
+		for i, field := range fields {
+			v.hold(names[i], names[i], field)
+		}
+		return v
 	}}
 }
 
 func (m maker) choice(depth int) madeType {
 	names, types, texts := m.parts(depth)
-	return madeType{"<" + strings.Join(texts, "|") + ">", func() (string, string) {
+	return madeType{"<" + strings.Join(texts, "|") + ">", func() made {
 		k := m.IntN(len(types))
-		text, data := types[k].value()
-		return names[k] + ":" + text, string([]byte{byte(k)}) + data
+		inner := types[k].value()
+		v := newMade(names[k]+":"+inner.text, string([]byte{byte(k)})+inner.data)
+		v.hold(names[k], names[k], inner)
+		return v
 	}}
 }
 
 // Many types and values, the same at every run, told as the document's table
 // has them: there and back, and cut off.
 func TestP4P5ManyTypes(t *testing.T) {
-	m, looked := maker{rand.New(rand.NewPCG(1, 2))}, 0
+	m, looked := newMaker(1), 0
 	for range 3000 {
-		of := m.anyType(1 + m.IntN(4))
-		desc := "m=" + of.text
-		if len(desc) > api.MaxText {
-			continue
-		}
-		text, data := of.value()
+		desc, of := m.description()
+		v := of.value()
+		text, data := v.text, v.data
 		if len(data) > api.MaxMessage {
 			wantError(t, Encode, desc, text, api.ErrLong, 0)
 			continue

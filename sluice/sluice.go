@@ -6,6 +6,7 @@ import (
 
 	"sluice/api"
 	"sluice/describe"
+	"sluice/tally"
 	"sluice/values"
 )
 
@@ -30,9 +31,9 @@ func Encode(desc string, value string) (string, api.Errno, int) {
 	if errno != api.OK {
 		return "", errno, at
 	}
-	v, at, ok := values.FromText(of, value)
-	if !ok {
-		return "", api.ErrValue, at
+	v, errno, at := values.FromText(of, value)
+	if errno != api.OK {
+		return "", errno, at
 	}
 	message, ok := v.Message()
 	if !ok {
@@ -43,26 +44,38 @@ func Encode(desc string, value string) (string, api.Errno, int) {
 
 // Decode tells the value of a message (P5).
 func Decode(desc string, data string) (string, api.Errno, int) {
+	// The whole value is what the empty path leads to, and that leads somewhere.
+	return Get(desc, data, "")
+}
+
+// Get tells a part of a message's value (P6).
+func Get(desc string, data string, path string) (string, api.Errno, int) {
 	of, errno, at := parse(desc)
 	if errno != api.OK {
 		return "", errno, at
 	}
-	if len(data) > api.MaxMessage {
-		return "", api.ErrLong, 0
+	v, errno, at := values.FromMessage(of, data)
+	if errno != api.OK {
+		return "", errno, at
 	}
-	v, at, ok := values.FromMessage(of, data)
+	part, step, ok := v.Part(path)
 	if !ok {
-		return "", api.ErrData, at
+		return "", api.ErrPath, step
 	}
-	return v.Text(), api.OK, 0
+	return part.Text(), api.OK, 0
 }
-
-// Get tells a part of a message's value (P6).
-func Get(desc string, data string, path string) (string, api.Errno, int) { return "", api.OK, 0 }
 
 // Tally adds up the numbers of messages (P7).
 func Tally(desc string, messages []string, workers int) ([]api.Sum, int, api.Errno, int) {
-	return nil, 0, api.OK, 0
+	of, errno, at := parse(desc)
+	if errno != api.OK {
+		return nil, 0, errno, at
+	}
+	if len(messages) > api.MaxMessages || workers < 1 || workers > api.MaxWorkers {
+		return nil, 0, api.ErrConf, 0
+	}
+	sums, refused := tally.Messages(of, messages, workers)
+	return sums, refused, api.OK, 0
 }
 
 // Ring is a ring of bytes in which frames wait and are held.

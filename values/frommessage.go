@@ -8,15 +8,18 @@ import (
 
 type messageReader struct{ row.Reader }
 
-// FromMessage reads a value's bytes. If they are no value of the type it tells
-// the place of the first wrong byte, and false.
-func FromMessage(of *describe.Type, data string) (Value, int, bool) {
+// FromMessage reads a value's bytes. It refuses them if they are too many for a
+// message, or at the first one that is wrong.
+func FromMessage(of *describe.Type, data string) (Value, api.Errno, int) {
+	if len(data) > api.MaxMessage {
+		return Value{}, api.ErrLong, 0
+	}
 	r := messageReader{row.NewReader(data)}
 	v, ok := r.value(of)
 	if !ok || !r.Ended() {
-		return Value{}, r.At(), false
+		return Value{}, api.ErrData, r.At()
 	}
-	return v, 0, true
+	return v, api.OK, 0
 }
 
 func (r *messageReader) value(of *describe.Type) (Value, bool) {

@@ -12,15 +12,14 @@ import (
 
 type textReader struct{ row.Reader }
 
-// FromText reads a value's text. If that is none of the type it tells the
-// place of the first wrong byte, and false.
-func FromText(of *describe.Type, text string) (Value, int, bool) {
+// FromText reads a value's text. It refuses that at the first byte that is wrong.
+func FromText(of *describe.Type, text string) (Value, api.Errno, int) {
 	r := textReader{row.NewReader(text)}
 	v, ok := r.value(of)
 	if !ok || !r.Ended() {
-		return Value{}, r.At(), false
+		return Value{}, api.ErrValue, r.At()
 	}
-	return v, 0, true
+	return v, api.OK, 0
 }
 
 func (r *textReader) value(of *describe.Type) (Value, bool) {

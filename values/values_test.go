@@ -1,8 +1,11 @@
 package values
 
 import (
+	"slices"
+	"strconv"
 	"testing"
 
+	"sluice/api"
 	"sluice/describe"
 )
 
@@ -29,13 +32,13 @@ func TestNumbersHaveTheirWidth(t *testing.T) {
 func TestOneValueHoweverItIsTold(t *testing.T) {
 	of := parsed(t, "m={a:int,b:[<x:text|y:?bool>],c:bytes}")
 	text, data := `{-2,[y:+yes,x:"q",y:-],x00ff}`, "\xff\xff\xff\xff\xff\xff\xff\xfe\x03\x01\x01\x01\x00\x01q\x01\x00\x02\x00\xff"
-	v, at, ok := FromText(of, text)
-	if !ok || at != 0 {
-		t.Fatalf("from text: %d, %v", at, ok)
+	v, errno, at := FromText(of, text)
+	if errno != api.OK || at != 0 {
+		t.Fatalf("from text: %d, %d", errno, at)
 	}
-	w, at, ok := FromMessage(of, data)
-	if !ok || at != 0 {
-		t.Fatalf("from bytes: %d, %v", at, ok)
+	w, errno, at := FromMessage(of, data)
+	if errno != api.OK || at != 0 {
+		t.Fatalf("from bytes: %d, %d", errno, at)
 	}
 	for _, x := range []Value{v, w} {
 		message, ok := x.Message()
@@ -50,10 +53,35 @@ func TestOneValueHoweverItIsTold(t *testing.T) {
 
 func TestWrongOnesTellTheirPlace(t *testing.T) {
 	of := parsed(t, "m=[short]")
-	if v, at, ok := FromText(of, "[1,65536]"); ok || at != 7 || v.Of != nil || v.Parts != nil {
-		t.Errorf("from text: %+v, %d, %v", v, at, ok)
+	if v, errno, at := FromText(of, "[1,65536]"); errno != api.ErrValue || at != 7 || v.Of != nil || v.Parts != nil {
+		t.Errorf("from text: %+v, %d, %d", v, errno, at)
 	}
-	if v, at, ok := FromMessage(of, "\x02\x00\x00\x00"); ok || at != 4 || v.Of != nil || v.Parts != nil {
-		t.Errorf("from bytes: %+v, %d, %v", v, at, ok)
+	if v, errno, at := FromMessage(of, "\x02\x00\x00\x00"); errno != api.ErrData || at != 4 || v.Of != nil || v.Parts != nil {
+		t.Errorf("from bytes: %+v, %d, %d", v, errno, at)
+	}
+	if v, errno, at := FromMessage(of, string(make([]byte, 1001))); errno != api.ErrLong || at != 0 || v.Of != nil || v.Parts != nil {
+		t.Errorf("from too many bytes: %+v, %d, %d", v, errno, at)
+	}
+}
+
+func TestPathsToParts(t *testing.T) {
+	v, errno, at := FromText(parsed(t, "m=[?{a:<x:byte|y:[int]>,b:short}]"), "[+{y:[-4,5],7},-,+{x:6,8}]")
+	if errno != api.OK {
+		t.Fatalf("%d, %d", errno, at)
+	}
+	for path, want := range map[string]string{"": v.Text(), "0": "+{y:[-4,5],7}", "1": "-", "2/+/a": "x:6", "0/+/a/y/1": "5"} {
+		if part, step, ok := v.Part(path); !ok || step != 0 || part.Text() != want {
+			t.Errorf("%q: %+v, %d, %v, want %q", path, part, step, ok, want)
+		}
+	}
+	for path, want := range map[string]int{"3": 0, "1/+": 1, "0/+/a/x": 3, "0/+/a/y/2": 4, "0/+/a/y/0/0": 5} {
+		if part, step, ok := v.Part(path); ok || step != want || part.Of != nil {
+			t.Errorf("%q: %+v, %d, %v, want the step %d", path, part, step, ok, want)
+		}
+	}
+	var told []string
+	v.Numbers(func(path string, number int64) { told = append(told, path+" "+strconv.FormatInt(number, 10)) })
+	if want := []string{"*/+/a/y/* -4", "*/+/a/y/* 5", "*/+/b 7", "*/+/a/x 6", "*/+/b 8"}; !slices.Equal(told, want) {
+		t.Errorf("%q, want %q", told, want)
 	}
 }
