@@ -6,6 +6,7 @@ import (
 
 	"sluice/api"
 	"sluice/describe"
+	"sluice/ring"
 	"sluice/tally"
 	"sluice/values"
 )
@@ -79,28 +80,36 @@ func Tally(desc string, messages []string, workers int) ([]api.Sum, int, api.Err
 }
 
 // Ring is a ring of bytes in which frames wait and are held.
-type Ring struct{}
+type Ring struct{ frames *ring.Ring }
 
 // NewRing makes an empty ring (P8).
-func NewRing(granules int) (*Ring, api.Errno) { return nil, api.OK }
+func NewRing(granules int) (*Ring, api.Errno) {
+	frames, errno := ring.New(granules)
+	if errno != api.OK {
+		return nil, errno
+	}
+	return &Ring{frames}, api.OK
+}
 
 // Put puts a frame in (P8).
-func (r *Ring) Put(data string) api.Errno { return api.OK }
+func (r *Ring) Put(data string) api.Errno { return r.frames.Put(data) }
 
 // Take takes the frame that waits longest, which is held then (P9).
-func (r *Ring) Take() (int, api.Errno) { return 0, api.OK }
+func (r *Ring) Take() (int, api.Errno) { return r.frames.Take() }
 
 // View tells bytes of a frame that is held (P9).
-func (r *Ring) View(frame int, from int, to int) (string, api.Errno) { return "", api.OK }
+func (r *Ring) View(frame int, from int, to int) (string, api.Errno) {
+	return r.frames.View(frame, from, to)
+}
 
 // Release lets a frame go (P9).
-func (r *Ring) Release(frame int) api.Errno { return api.OK }
+func (r *Ring) Release(frame int) api.Errno { return r.frames.Release(frame) }
 
 // Shut lets nothing in any more (P8).
-func (r *Ring) Shut() api.Errno { return api.OK }
+func (r *Ring) Shut() api.Errno { return r.frames.Shut() }
 
 // Room tells how the ring is (P9).
-func (r *Ring) Room() api.Room { return api.Room{} }
+func (r *Ring) Room() api.Room { return r.frames.Room() }
 
 // Bus is a ring for messages of one description.
 type Bus struct{}
