@@ -97,17 +97,25 @@ func (r *Ring) heldAt(number int) (int, bool) {
 	return i, r.frames[i].state == held
 }
 
-// View tells bytes of a frame that is held.
-func (r *Ring) View(number, from, to int) (string, api.Errno) {
+// Bytes tells all bytes of a frame that is held.
+func (r *Ring) Bytes(number int) (string, api.Errno) {
 	i, ok := r.heldAt(number)
 	if !ok {
 		return "", api.ErrFrame
 	}
-	bytes := r.bytes(r.frames[i].at)
-	if from < 0 || from > to || to > len(bytes) {
+	return string(r.bytes(r.frames[i].at)), api.OK
+}
+
+// View tells those from a place on, up to ahead of another one.
+func (r *Ring) View(number, from, to int) (string, api.Errno) {
+	data, errno := r.Bytes(number)
+	if errno != api.OK {
+		return "", errno
+	}
+	if from < 0 || from > to || to > len(data) {
 		return "", api.ErrConf
 	}
-	return string(bytes[from:to]), api.OK
+	return data[from:to], api.OK
 }
 
 // Release lets a frame that is held go.

@@ -68,3 +68,29 @@ func TestReleasedFramesAreForgotten(t *testing.T) {
 		}
 	}
 }
+
+func TestBytesOnlyOfHeldFrames(t *testing.T) {
+	r := made(t, 4)
+	put(t, r, "abcdefghij")
+	put(t, r, "")
+	wantNone := func(number int) {
+		t.Helper()
+		if data, errno := r.Bytes(number); data != "" || errno != api.ErrFrame {
+			t.Errorf("Bytes(%d) = %q, %d", number, data, errno)
+		}
+	}
+	wantNone(1)
+	r.Take()
+	if data, errno := r.Bytes(1); data != "abcdefghij" || errno != api.OK {
+		t.Errorf("Bytes(1) = %q, %d", data, errno)
+	}
+	for _, number := range []int{-1, 0, 2, 3} {
+		wantNone(number)
+	}
+	r.Take()
+	if data, errno := r.Bytes(2); data != "" || errno != api.OK {
+		t.Errorf("Bytes(2) = %q, %d", data, errno)
+	}
+	r.Release(1)
+	wantNone(1)
+}

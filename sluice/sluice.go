@@ -32,6 +32,10 @@ func Encode(desc string, value string) (string, api.Errno, int) {
 	if errno != api.OK {
 		return "", errno, at
 	}
+	return encode(of, value)
+}
+
+func encode(of *describe.Type, value string) (string, api.Errno, int) {
 	v, errno, at := values.FromText(of, value)
 	if errno != api.OK {
 		return "", errno, at
@@ -55,6 +59,10 @@ func Get(desc string, data string, path string) (string, api.Errno, int) {
 	if errno != api.OK {
 		return "", errno, at
 	}
+	return get(of, data, path)
+}
+
+func get(of *describe.Type, data string, path string) (string, api.Errno, int) {
 	v, errno, at := values.FromMessage(of, data)
 	if errno != api.OK {
 		return "", errno, at
@@ -112,28 +120,65 @@ func (r *Ring) Shut() api.Errno { return r.frames.Shut() }
 func (r *Ring) Room() api.Room { return r.frames.Room() }
 
 // Bus is a ring for messages of one description.
-type Bus struct{}
+type Bus struct {
+	of     *describe.Type
+	frames *ring.Ring
+}
 
 // NewBus makes one (P10).
-func NewBus(desc string, granules int) (*Bus, api.Errno, int) { return nil, api.OK, 0 }
+func NewBus(desc string, granules int) (*Bus, api.Errno, int) {
+	of, errno, at := parse(desc)
+	if errno != api.OK {
+		return nil, errno, at
+	}
+	frames, errno := ring.New(granules)
+	if errno != api.OK {
+		return nil, errno, 0
+	}
+	return &Bus{of, frames}, api.OK, 0
+}
 
 // Publish puts the message of a value in (P10).
-func (b *Bus) Publish(value string) (api.Errno, int) { return api.OK, 0 }
+func (b *Bus) Publish(value string) (api.Errno, int) {
+	message, errno, at := encode(b.of, value)
+	if errno != api.OK {
+		return errno, at
+	}
+	return b.frames.Put(message), 0
+}
 
 // Raw puts bytes in as they are (P10).
-func (b *Bus) Raw(data string) api.Errno { return api.OK }
+func (b *Bus) Raw(data string) api.Errno { return b.frames.Put(data) }
 
 // Consume takes the message that waits longest (P10).
-func (b *Bus) Consume() (int, string, api.Errno) { return 0, "", api.OK }
+func (b *Bus) Consume() (int, string, api.Errno) {
+	frame, errno := b.frames.Take()
+	if errno != api.OK {
+		return 0, "", errno
+	}
+	value, errno, _ := b.Field(frame, "")
+	if errno != api.OK {
+		// Nobody can do anything with it: held, it would only be in the way.
+		b.frames.Release(frame)
+		return frame, "", api.ErrData
+	}
+	return frame, value, api.OK
+}
 
 // Field tells a part of a message that is held (P10).
-func (b *Bus) Field(frame int, path string) (string, api.Errno, int) { return "", api.OK, 0 }
+func (b *Bus) Field(frame int, path string) (string, api.Errno, int) {
+	data, errno := b.frames.Bytes(frame)
+	if errno != api.OK {
+		return "", errno, 0
+	}
+	return get(b.of, data, path)
+}
 
 // Release lets a message go (P10).
-func (b *Bus) Release(frame int) api.Errno { return api.OK }
+func (b *Bus) Release(frame int) api.Errno { return b.frames.Release(frame) }
 
 // Shut lets nothing in any more (P10).
-func (b *Bus) Shut() api.Errno { return api.OK }
+func (b *Bus) Shut() api.Errno { return b.frames.Shut() }
 
 // Room tells how the bus's ring is (P10).
-func (b *Bus) Room() api.Room { return api.Room{} }
+func (b *Bus) Room() api.Room { return b.frames.Room() }
